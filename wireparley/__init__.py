@@ -1,0 +1,1 @@
+"""Talks between two programs, by grammars, over wires of bytes."""
