@@ -173,6 +173,17 @@ class LanguageTest(unittest.TestCase):
             with self.subTest(path.name):
                 self.assertEqual(Faults(path).all(), [])
 
+    def test_no_name_is_a_method_here_and_a_value_there(self):
+        methods, values = set(), set()
+        for path in files():
+            for node in ast.walk(ast.parse(path.read_text(encoding="utf-8"))):
+                if isinstance(node, ast.ClassDef):
+                    methods |= {part.name for part in node.body if isinstance(part, ast.FunctionDef)}
+                if isinstance(node, ast.Attribute) and isinstance(node.ctx, ast.Store):
+                    values.add(node.attr)
+        self.assertEqual(sorted(methods & values), [], "L18")
+        self.assertEqual(sorted((methods | values) & PYTHONS_METHODS - {"__init__"}), [], "L26")
+
     def test_no_two_files_draw_from_one_another(self):
         drawn = {}
         for path in files():

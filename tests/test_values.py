@@ -4,6 +4,7 @@ import copy
 import itertools
 import unittest
 
+from tests.expected import SIGNS, expected_bytes, lists_in, values_of
 from tests.odd import odd_things
 from wireparley.errors import Broken, NoValue, ParleyError, Short
 from wireparley.shapes import fits, is_shape
@@ -12,7 +13,6 @@ from wireparley.values import read_value, value_bytes
 NOTHING = ("nothing",)
 BIT = ("number", 0, 1)
 MOST = 999999999999999999
-SIGNS = "".join(chr(number) for number in range(32, 127) if number != 37)
 
 # Each row: a shape, a value that fits it, and the bytes by point [6].
 ROWS = [
@@ -99,43 +99,6 @@ FEW = [
 ]
 
 
-def values_of(s):
-    """All values of a shape of few values, by the words of point [5]."""
-    kind = s[0]
-    if kind == "nothing":
-        return [None]
-    if kind == "number":
-        return list(range(s[1], s[2] + 1))
-    if kind == "text":
-        texts = [itertools.product(SIGNS, repeat=length) for length in range(s[1] + 1)]
-        return ["".join(signs) for signs in itertools.chain(*texts)]
-    if kind == "list":
-        rows = [itertools.product(values_of(s[1]), repeat=length) for length in range(s[2] + 1)]
-        return [list(row) for row in itertools.chain(*rows)]
-    if kind == "pair":
-        return list(itertools.product(values_of(s[1]), values_of(s[2])))
-    return [("of", k, value) for k, part in enumerate(s[1]) for value in values_of(part)]
-
-
-def expected_bytes(s, value):
-    """The words of point [6], written another way than the program's."""
-    kind = s[0]
-    if kind == "nothing":
-        return []
-    if kind == "number":
-        width = 0
-        while 256 ** width <= s[2] - s[1]:
-            width += 1
-        return list((value - s[1]).to_bytes(width, "big"))
-    if kind == "text":
-        return [len(value), *value.encode("ascii")]
-    if kind == "list":
-        return [len(value), *itertools.chain(*[expected_bytes(s[1], thing) for thing in value])]
-    if kind == "pair":
-        return expected_bytes(s[1], value[0]) + expected_bytes(s[2], value[1])
-    return [value[1], *expected_bytes(s[1][value[1]], value[2])]
-
-
 class Known:
     """All rows of bytes of a shape of few values, and what is read by the words of point [7]."""
 
@@ -163,14 +126,6 @@ def answer_of(s, wire, at):
     if not isinstance(told, tuple) or len(told) != 2:
         raise AssertionError("no tuple of a value and a place")
     return ("value", told[0], told[1])
-
-
-def lists_in(value):
-    if isinstance(value, list):
-        return [value] + [part for thing in value for part in lists_in(thing)]
-    if isinstance(value, tuple):
-        return [part for thing in value for part in lists_in(thing)]
-    return []
 
 
 class ValueBytesTest(unittest.TestCase):

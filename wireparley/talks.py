@@ -52,34 +52,54 @@ def is_name(thing):
 
 
 def state_behind(g, talk):
+    steps = steps_of(g, talk)
+    if len(steps) == 0:
+        return 0
+    return state_next(g, steps[-1])
+
+
+def steps_of(g, talk):
+    # Of each message its step: the state in which it is said, and its word's place in the state's list.
     state = 0
+    steps = []
     for k in range(len(talk)):
-        word = word_said(g[state], talk[k])
-        if word is None:
+        place = place_said(g[state], talk[k])
+        if place is None:
             raise NoTalk(k)
-        state = word[2]
-    return state
+        step = (state, place)
+        steps.append(step)
+        state = state_next(g, step)
+    return steps
 
 
-def word_said(state, thing):
+def state_next(g, step):
+    return g[step[0]][1][step[1]][2]
+
+
+def place_said(state, thing):
     # The thing is of any kind: its texts are compared only when they are texts.
-    if is_end(state) or not isinstance(thing, tuple) or len(thing) != 3:
+    if not isinstance(thing, tuple) or len(thing) != 3:
         return None
     if not isinstance(thing[0], str) or thing[0] != state[0]:
         return None
-    word = word_named(state, thing[1])
-    if word is None or not fits(word[1], thing[2]):
+    place = place_named(state, thing[1])
+    if place is None or not fits(state[1][place][1], thing[2]):
         return None
-    return word
+    return place
 
 
-def word_named(state, thing):
+def place_named(state, thing):
     if not isinstance(thing, str):
         return None
-    for word in state[1]:
-        if word[0] == thing:
-            return word
+    words = words_of(state)
+    for place in range(len(words)):
+        if words[place][0] == thing:
+            return place
     return None
+
+
+def words_of(state):
+    return () if is_end(state) else state[1]
 
 
 def is_end(state):
@@ -88,3 +108,8 @@ def is_end(state):
 
 def is_whole(g, talk):
     return is_end(g[state_behind(g, talk)])
+
+
+def grammar_copy(g):
+    # The lists of words are all that can be changed in a grammar, but for the list of states itself.
+    return [state if is_end(state) else (state[0], list(state[1])) for state in g]
