@@ -40,6 +40,72 @@ def drawn_grammar(chance, states):
     return [drawn_state(chance, states) for _ in range(states)]
 
 
+# Of these the ones in a row are near: some are within others, some part from them.
+NEAR_SHAPES = [
+    [NOTHING, ("list", NOTHING, 0), ("list", BIT, 0), ("list", BIT, 1), ("list", ("number", 0, 2), 2)],
+    [BIT, ("number", 0, 2), ("number", 0, 0), ("number", 1, 2), ("number", 0, 256)],
+    [("text", 0), ("text", 1)],
+    [("pair", BIT, ("number", 0, 0)), ("pair", BIT, BIT), ("pair", ("number", 0, 0), BIT)],
+    [("choice", (BIT,)), ("choice", (BIT, NOTHING)), ("choice", (("number", 0, 2), NOTHING, BIT))],
+]
+
+
+def near_grammar(chance, states):
+    """A grammar of shapes that have others near to them, with few words."""
+    g = []
+    for _ in range(states):
+        words = [
+            (name, chance.choice(chance.choice(NEAR_SHAPES)), chance.randrange(states))
+            for name in chance.sample("abcd", chance.choice([1, 1, 2, 3]))
+        ]
+        g.append(("end",) if chance.random() < 0.2 else (chance.choice(["left", "right"]), words))
+    return g
+
+
+def kin_of(chance, g, changes):
+    """A grammar like this one but for so many changes."""
+    kin = [state if state == ("end",) else (state[0], list(state[1])) for state in g]
+    for _ in range(changes):
+        number = chance.randrange(len(kin))
+        kin[number] = changed_state(chance, kin[number], len(kin))
+    return kin
+
+
+def renumbered(chance, g):
+    """The same grammar, with its states but the first one in another order."""
+    order = [0, *chance.sample(range(1, len(g)), len(g) - 1)]
+    states = [g[number] for number in order]
+    return [state if state == ("end",) else
+            (state[0], [(name, shape, order.index(behind)) for name, shape, behind in state[1]]) for state in states]
+
+
+def changed_state(chance, state, states):
+    if state == ("end",) or chance.random() < 0.05:
+        return near_grammar(chance, states)[0]
+    side, words = state[0], list(state[1])
+    place = chance.randrange(len(words))
+    name, shape, behind = words[place]
+    change = chance.choice(["more", "more", "less", "turn", "name", "shape", "shape", "behind", "side", "end"])
+    free = [letter for letter in "abcdefgh" if letter not in [word[0] for word in words]]
+    if change == "more":
+        words.append((chance.choice(free), shape, chance.randrange(states)))
+    elif change == "less" and len(words) > 1:
+        words.pop()
+    elif change == "turn":
+        words.insert(chance.randrange(len(words)), words.pop(place))
+    elif change == "name":
+        words[place] = (chance.choice(free), shape, behind)
+    elif change == "shape":
+        words[place] = (name, chance.choice([row for row in NEAR_SHAPES if shape in row][0]), behind)
+    elif change == "behind":
+        words[place] = (name, shape, chance.randrange(states))
+    elif change == "side":
+        side = {"left": "right", "right": "left"}[side]
+    elif change == "end":
+        return ("end",)
+    return (side, words)
+
+
 def drawn_message(chance, state):
     name, shape, behind = chance.choice(state[1])
     return (state[0], name, chance.choice(values_of(shape))), behind
