@@ -2,7 +2,7 @@
 
 import random
 
-from tests.expected import values_of
+from tests.expected import expected_within, values_of
 
 NOTHING = ("nothing",)
 BIT = ("number", 0, 1)
@@ -142,3 +142,31 @@ def damaged(chance, wire):
         wire[:at] + [byte] + wire[at + 1:], wire[:at] + [byte] + wire[at:], wire[:at] + wire[at + 1:],
         wire + [byte], wire[:at],
     ])
+
+
+def near_shapes(s, wider):
+    """The shapes near to this one that it is within, or, where no wider ones are asked for, that are within it."""
+    near = [row for row in NEAR_SHAPES if s in row][0]
+    return [r for r in near if (expected_within(s, r) if wider else expected_within(r, s))]
+
+
+def relayed_kin(chance, g):
+    """A grammar h and a dict of names such that a relay may stand between a left by g and a right by h."""
+    names = dict(zip("abcd", chance.sample(["a", "b", "c", "d", "e", "abcdefgh"], 4)))
+    h = []
+    for state in renumbered(chance, g):
+        if state == ("end",):
+            h.append(state)
+            continue
+        side, words = state
+        shapes = [chance.choice(near_shapes(shape, side == "left")) for _, shape, _ in words]
+        words = [(names[word[0]], shape, word[2]) for word, shape in zip(words, shapes)]
+        chance.shuffle(words)
+        if side == "left":
+            # Words that the left never says may stand anywhere among those that it hears.
+            more = ("more", chance.choice(chance.choice(NEAR_SHAPES)), chance.randrange(len(g)))
+            words.insert(chance.randrange(len(words) + 1), more)
+        elif len(words) > 1 and chance.random() < 0.5:
+            words.pop()
+        h.append((side, words))
+    return h, names

@@ -114,3 +114,11 @@ class KnownWires:
             if row not in self.begun[state]:
                 return ("broken", end - 1)
         return None
+
+
+def expected_within(s, r):
+    """Whether each value of a shape of few values fits another, with the same bytes."""
+    others = {repr(value) for value in values_of(r)}
+    return all(
+        repr(value) in others and expected_bytes(s, value) == expected_bytes(r, value) for value in values_of(s)
+    )

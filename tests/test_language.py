@@ -68,6 +68,7 @@ class Faults:
         self.lines()
         self.top()
         self.names()
+        self.classes()
         for node in ast.walk(self.tree):
             self.statement(node)
             self.expression(node)
@@ -112,6 +113,19 @@ class Faults:
                 self.fault("L12", line, name)
             if name in dir(builtins) and not name.startswith("__"):
                 self.fault("L15", line, name)
+
+    def classes(self):
+        """No name within a def is that of a class or an import; of a class no more is asked than its __init__."""
+        drawn = [alias.name for node in self.tree.body if isinstance(node, ast.ImportFrom) for alias in node.names]
+        drawn += [node.name for node in self.tree.body if isinstance(node, ast.ClassDef)]
+        for node in ast.walk(self.tree):
+            if isinstance(node, ast.arg) and node.arg in drawn:
+                self.fault("L15", node.lineno, node.arg)
+            if isinstance(node, ast.Name) and isinstance(node.ctx, ast.Store) and node.id in drawn:
+                self.fault("L15", node.lineno, node.id)
+            if isinstance(node, ast.Attribute) and isinstance(node.value, ast.Name) and node.attr != "__init__":
+                if node.value.id in drawn and re.match("[A-Z][a-z]", node.value.id):
+                    self.fault("L18", node.lineno, node.attr)
 
     def statement(self, node):
         if isinstance(node, ast.stmt) and not isinstance(node, STATEMENTS):

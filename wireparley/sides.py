@@ -3,7 +3,7 @@
 from wireparley.errors import NoRow, NoTalk
 from wireparley.pieces import Hearer
 from wireparley.shapes import is_number_within
-from wireparley.talks import is_end, place_said, state_next
+from wireparley.talks import is_end, place_named, place_said, state_next
 from wireparley.wires import message_bytes
 
 SIDES = ("left", "right")
@@ -20,7 +20,16 @@ class Side(Hearer):
         Hearer.__init__(self, g, (other_side(side),))
         self.side = side
 
+    # What a side does by speak and listen is apart from say and take, so that
+    # a side that keeps count of what it says and takes does the same.
+
     def say(self, name, value):
+        return self.speak(name, value)
+
+    def take(self, piece):
+        return self.listen(piece)
+
+    def speak(self, name, value):
         state = self.grammar[self.standing]
         place = place_said(state, (self.side, name, value))
         if place is None:
@@ -28,7 +37,7 @@ class Side(Hearer):
         self.standing = state_next(self.grammar, (self.standing, place))
         return message_bytes(state, place, value)
 
-    def take(self, piece):
+    def listen(self, piece):
         return self.hear(other_side(self.side), piece)
 
     def waiting(self):
@@ -36,6 +45,14 @@ class Side(Hearer):
 
     def may_say(self):
         return self.grammar[self.standing][0] == self.side
+
+    def shape_to_say(self, name):
+        # The shape of a word that it may say now.
+        state = self.grammar[self.standing]
+        place = place_named(state, name) if self.may_say() else None
+        if place is None:
+            raise NoTalk(0)
+        return state[1][place][1]
 
     def has_ended(self):
         return is_end(self.grammar[self.standing])

@@ -24,22 +24,22 @@ def show_part(part):
 def show_value(s, value):
     if not fits(s, value):
         raise NoValue("the value does not fit the shape")
-    return show_fitting(s, value)
+    return show_fitting(value)
 
 
-def show_fitting(s, value):
-    kind = s[0]
-    if kind == "nothing":
+def show_fitting(value):
+    # Of a value that fits some shape: its own form tells what kind of shape that is.
+    if value is None:
         return "-"
-    if kind == "number":
-        return str(value)
-    if kind == "text":
+    if isinstance(value, str):
         return QUOTE + value.replace(QUOTE, QUOTE + QUOTE) + QUOTE
-    if kind == "list":
-        return "[" + ",".join([show_fitting(s[1], thing) for thing in value]) + "]"
-    if kind == "pair":
-        return "(" + show_fitting(s[1], value[0]) + "," + show_fitting(s[2], value[1]) + ")"
-    return "#" + str(value[1]) + ":" + show_fitting(s[1][value[1]], value[2])
+    if isinstance(value, list):
+        return "[" + ",".join([show_fitting(thing) for thing in value]) + "]"
+    if not isinstance(value, tuple):
+        return str(value)
+    if len(value) == 2:
+        return "(" + show_fitting(value[0]) + "," + show_fitting(value[1]) + ")"
+    return "#" + str(value[1]) + ":" + show_fitting(value[2])
 
 
 def show_grammar(g):
